@@ -1,0 +1,1 @@
+"""Restlesshelf: a computer whose memory moves when it is touched."""

@@ -1,0 +1,124 @@
+"""What a value must be to be allowed as an argument."""
+
+from restlesshelf.errors import BadHabit, BadInputs, BadLayout, BadNumber, BadPlace, BadProgram, BadWord
+
+FEWEST_PLACES = 2
+MOST_PLACES = 5
+MOST_TOUCHES = 400
+MOST_INPUTS = 50
+MOST_STILL = 200
+MOST_RESTLESS = 4000
+GREATEST = 1000000
+ACCESSES = ("get", "set", "plus", "minus")
+BARE = ("say", "ask", "stop")
+JUMPS = ("zero", "go")
+
+
+def is_integer(value):
+    # Python counts True and False as integers, the document does not.
+    return isinstance(value, int) and not isinstance(value, bool)
+
+
+def is_number(value, low, high):
+    return is_integer(value) and low <= value <= high
+
+
+def is_row(value, low, high):
+    """Whether a value is a tuple of low to high things."""
+    return isinstance(value, tuple) and low <= len(value) <= high
+
+
+def is_place(value, places):
+    return is_number(value, 0, places - 1)
+
+
+def are_places(value, places):
+    """Whether a value is a tuple of places, however many."""
+    return isinstance(value, tuple) and all([is_place(place, places) for place in value])
+
+
+def is_layout(value, places):
+    """Whether a value is a layout or, which looks alike, a permutation of so many places."""
+    return is_row(value, places, places) and are_places(value, places) and sorted(value) == list(range(places))
+
+
+def is_word(value, places):
+    return is_row(value, 0, MOST_TOUCHES) and are_places(value, places)
+
+
+def is_habit(value):
+    return is_row(value, FEWEST_PLACES, MOST_PLACES) and all([is_layout(moves, len(value)) for moves in value])
+
+
+def is_instruction(value, places, count, is_restless):
+    """Whether a value is an instruction of a program of so many places and instructions."""
+    if not is_row(value, 1, 2) or not isinstance(value[0], str):
+        return False
+    word = value[0]
+    if word in BARE:
+        return len(value) == 1
+    if len(value) == 1:
+        return False
+    if word in JUMPS:
+        return is_number(value[1], 0, count)
+    if word == "put":
+        return is_number(value[1], -GREATEST, GREATEST)
+    if word in ACCESSES or (word == "touch" and is_restless):
+        return is_place(value[1], places)
+    return False
+
+
+def check_number(value, low, high):
+    if not is_number(value, low, high):
+        raise BadNumber(f"no number from {low} to {high}")
+
+
+def check_places(places):
+    """Checks the number of places of a shelf."""
+    check_number(places, FEWEST_PLACES, MOST_PLACES)
+
+
+def check_habit(habit):
+    if not is_row(habit, FEWEST_PLACES, MOST_PLACES):
+        raise BadHabit(None)
+    for place, moves in enumerate(habit):
+        if not is_layout(moves, len(habit)):
+            raise BadHabit(place)
+
+
+def check_layout(layout, places):
+    if not is_layout(layout, places):
+        raise BadLayout(f"no layout of {places} places")
+
+
+def check_place(place, places):
+    if not is_place(place, places):
+        raise BadPlace(f"no place of {places} places")
+
+
+def check_word(word, places):
+    if not is_word(word, places):
+        raise BadWord(f"no word of places among {places}")
+
+
+def check_program(program, places, most, is_restless):
+    if not is_row(program, 1, most):
+        raise BadProgram(None)
+    for index, instruction in enumerate(program):
+        if not is_instruction(instruction, places, len(program), is_restless):
+            raise BadProgram(index)
+
+
+def check_still(program, places):
+    check_program(program, places, MOST_STILL, False)
+
+
+def check_restless(program, places):
+    check_program(program, places, MOST_RESTLESS, True)
+
+
+def check_inputs(inputs):
+    if not is_row(inputs, 0, MOST_INPUTS):
+        raise BadInputs("no tuple of so many inputs")
+    if not all([is_number(number, -GREATEST, GREATEST) for number in inputs]):
+        raise BadInputs("an input is no integer within the bounds")

@@ -1,0 +1,31 @@
+"""The interface: each function in its own file, with the arguments that the document lists."""
+
+import importlib
+import inspect
+import unittest
+
+INTERFACE = {
+    "shelves": (
+        "touched(habit, layout, place)", "after(habit, layout, word)", "can_come(habit, layout)",
+        "word_between(habit, one, other)", "distance(habit, one, other)", "farthest(habit, layout)", "order(habit)",
+        "front_habit(places)", "neighbour_habit(places)", "turning_habit(places)",
+    ),
+    "programs": (
+        "run_still(places, program, inputs, most)", "run_restless(habit, program, inputs, most)",
+        "reached(places, program)", "used(places, program)", "flow(places, program)",
+    ),
+}
+
+
+class InterfaceTests(unittest.TestCase):
+    def test_functions(self):
+        for name, functions in INTERFACE.items():
+            module = importlib.import_module(f"restlesshelf.{name}")
+            for text in functions:
+                function = getattr(module, text.partition("(")[0])
+                self.assertEqual(function.__module__, module.__name__, text)
+                self.assertEqual(function.__name__ + str(inspect.signature(function)), text)
+
+
+if __name__ == "__main__":
+    unittest.main()
