@@ -1,11 +1,23 @@
 """What a value must be to be allowed as an argument."""
 
-from restlesshelf.errors import BadHabit, BadInputs, BadLayout, BadNumber, BadPlace, BadProgram, BadWord
+from restlesshelf.errors import (
+    BadHabit,
+    BadHabits,
+    BadInputs,
+    BadLayout,
+    BadNames,
+    BadNumber,
+    BadPlace,
+    BadProgram,
+    BadStand,
+    BadWord,
+)
 
 FEWEST_PLACES = 2
 MOST_PLACES = 5
 MOST_TOUCHES = 400
 MOST_INPUTS = 50
+MOST_HABITS = 3
 MOST_STILL = 200
 MOST_RESTLESS = 4000
 GREATEST = 1000000
@@ -35,6 +47,11 @@ def is_place(value, places):
 def are_places(value, places):
     """Whether a value is a tuple of places, however many."""
     return isinstance(value, tuple) and all([is_place(place, places) for place in value])
+
+
+def is_rising(row):
+    """Whether each thing of a tuple is greater than the one before it."""
+    return all([one < other for one, other in zip(row, row[1:])])
 
 
 def is_layout(value, places):
@@ -86,6 +103,24 @@ def check_habit(habit):
             raise BadHabit(place)
 
 
+def check_habits(habits):
+    """Checks habits of shelves with as many places."""
+    if not is_row(habits, 1, MOST_HABITS):
+        raise BadHabits(None)
+    for index, habit in enumerate(habits):
+        if not is_habit(habit) or len(habit) != len(habits[0]):
+            raise BadHabits(index)
+
+
+def check_stand(stand, habits):
+    """Checks a stand for habits that are checked already."""
+    if not is_row(stand, len(habits), len(habits)):
+        raise BadStand(None)
+    for index, layout in enumerate(stand):
+        if not is_layout(layout, len(habits[0])):
+            raise BadStand(index)
+
+
 def check_layout(layout, places):
     if not is_layout(layout, places):
         raise BadLayout(f"no layout of {places} places")
@@ -94,6 +129,23 @@ def check_layout(layout, places):
 def check_place(place, places):
     if not is_place(place, places):
         raise BadPlace(f"no place of {places} places")
+
+
+def check_lot(lot, places):
+    """Checks an ascending tuple of at least one place."""
+    if not is_row(lot, 1, places) or not are_places(lot, places) or not is_rising(lot):
+        raise BadPlace("no ascending tuple of places")
+
+
+def check_name(name, places):
+    # As many books as places, and called as these are.
+    if not is_place(name, places):
+        raise BadNames(f"no name of {places} books")
+
+
+def check_names(names, places, most):
+    if not is_row(names, 0, most) or not are_places(names, places):
+        raise BadNames(f"no tuple of at most {most} names of {places} books")
 
 
 def check_word(word, places):

@@ -74,6 +74,11 @@ def least_word(start, touches, step, is_goal):
     return None
 
 
+def move_stand(habits, stand, place):
+    """The stand behind a touch of a place, on a shelf of each habit."""
+    return tuple([move(habit, layout, place) for habit, layout in zip(habits, stand)])
+
+
 def layout_depths(habit, layout):
     """For each layout that can come, its distance."""
     return depths(layout, places_of_habit(habit), lambda one, place: move(habit, one, place), MOST_LAYOUTS)

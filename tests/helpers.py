@@ -165,3 +165,27 @@ def random_instruction(source, word, places, count):
     if word == "put":
         return (word, source.randint(-2, 2))
     return (word,)
+
+
+def bad_lots():
+    """Values that are no ascending tuple of at least one of two places."""
+    return awaited("BadPlace", (), ODD + (0, (), (0, 0), (1, 0), (0, 2), (-1,), (True,), (0, 1, 1), (0, 1, 2)))
+
+
+def bad_name_rows(most):
+    """Values that are no tuple of at most so many of two names."""
+    return awaited("BadNames", (), ODD + (0, (0, 2), (-1,), (True,), (0, False), (0,) * (most + 1)))
+
+
+def random_restless(source, places, most):
+    """A restless program of 1 to most instructions, with many jumps and touches."""
+    program = random_program(source, places, most)
+    return tuple(("touch", source.randrange(places)) if source.random() < 0.25 else row for row in program)
+
+
+def said_alike(still, restless):
+    """Whether a restless run says what a still one says, if the restless one went on for longer."""
+    said, word = still
+    if word == "stopped":
+        return restless == still
+    return restless[0][:len(said)] == said and restless[1] == "running"

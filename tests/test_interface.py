@@ -14,6 +14,21 @@ INTERFACE = {
         "run_still(places, program, inputs, most)", "run_restless(habit, program, inputs, most)",
         "reached(places, program)", "used(places, program)", "flow(places, program)",
     ),
+    "carrying": ("carries(habit, layout, program, restless)",),
+    "plans": (
+        "price(habit, layout, program, plan)", "least_plan(habit, layout, program)",
+        "shows_least_plan(habit, layout, program, value)", "written(habit, layout, program, plan)",
+    ),
+    "rows": (
+        "stands(habits, stand)", "meeting(habits, stand, name)", "names_met(habits, stand)",
+        "access_row(habits, stand, names)", "shows_access_row(habits, stand, names, value)",
+        "carries_all(habits, stand, program, restless)", "can_carry(habits, stand, program)",
+        "written_for_all(habits, stand, program)",
+    ),
+    "apart": (
+        "test(habit, other, lot)", "shows_test(habit, other, lot, value)", "alike_paper(habit, other, lot)",
+        "shows_alike(habit, other, lot, value)", "habits_left(habits, lot, place, word, read, is_marked)",
+    ),
 }
 
 
