@@ -56,7 +56,7 @@ def is_rising(row):
 
 def is_layout(value, places):
     """Whether a value is a layout or, which looks alike, a permutation of so many places."""
-    return is_row(value, places, places) and are_places(value, places) and sorted(value) == list(range(places))
+    return are_places(value, places) and sorted(value) == list(range(places))
 
 
 def is_word(value, places):

@@ -167,7 +167,7 @@ class PaperTests(unittest.TestCase):
         self.assertEqual(alike_paper(still, still, (0,)), ((0, 0),))
         for value in (((0, 0), (1, 1)), ((0, 0), (1, 2)), ((0, 0), (1, 1), (1, 2), (2, 1), (2, 2))):
             self.assertIs(shows_alike(still, still, (0,), value), True)
-        for value in (((0, 0), (0, 1)), ((0, 0), (2, 0)), ((1, 1),), ((0, 0), (1, 3)), ((0, 0), (1, 1, 1))):
+        for value in (((0, 0), (0, 1)), ((0, 0), (2, 0)), ((1, 1),), ((0, 0), (1, 3)), ((0, 0), (1, 1, 1)), ((0, 0), (1,))):
             self.assertIs(shows_alike(still, still, (0,), value), False)
 
     def test_pairs_of_two_shelves_are_closed_by_the_lot_alone(self):

@@ -34,6 +34,42 @@ def all_plans(habit, layout, program):
         yield tuple(ahead.get(at) for at in range(len(program)))
 
 
+def slow_least_price(habit, layout, program):
+    """The least price of all plans: all layouts of the joins are tried, what hangs below them is led the best way."""
+    places, end = len(habit), len(program)
+    comes = can_come(habit, layout)
+    ways = {(one, other): distance(habit, one, other) for one in comes for other in comes}
+    pairs = [pair for pair in flow(places, program) if pair[1] != end]
+    goals = {at: [goal for one, goal in pairs if one == at] for at in reached(places, program)}
+    arrivals = [0] + [goal for _, goal in pairs]
+    joins = [at for at in goals if arrivals.count(at) > 1]
+
+    def onward(at, ahead, chosen, known):
+        is_access = program[at][0] in ACCESSES
+        behind = touched(habit, ahead, ahead[program[at][1]]) if is_access else ahead
+        return sum(cost_to(goal, behind, chosen, known) for goal in goals[at])
+
+    def cost_to(at, stood, chosen, known):
+        if at in chosen:
+            return ways[stood, chosen[at]]
+        if (at, stood) not in known:
+            known[at, stood] = min(ways[stood, ahead] + onward(at, ahead, chosen, known) for ahead in comes)
+        return known[at, stood]
+
+    costs = []
+    for row in itertools.product(comes, repeat=len(joins)):
+        chosen, known = dict(zip(joins, row)), {}
+        costs.append(cost_to(0, layout, chosen, known) + sum(onward(at, chosen[at], chosen, known) for at in joins))
+    return min(costs)
+
+
+def calm_habit(source, places):
+    """A habit of which most touches move nothing: the few layouts that come are far from one another."""
+    habit = helpers.random_habit(source, places)
+    moving = source.sample(range(places), source.choice((1, 1, 2)))
+    return tuple(moves if at in moving else tuple(range(places)) for at, moves in enumerate(habit))
+
+
 def random_case(source, places, most):
     habit = helpers.random_habit(source, places)
     return habit, helpers.random_layout(source, places), helpers.random_program(source, places, most)
@@ -126,17 +162,40 @@ class LeastPlanTests(unittest.TestCase):
         self.assertEqual(slow_price(habit, (1, 0), program, plan), min(
             slow_price(habit, (1, 0), program, other) for other in all_plans(habit, (1, 0), program)))
 
-    def test_branches_with_two_joins_below(self):
+    def assert_is_least(self, habit, layout, program):
+        plan = least_plan(habit, layout, program)
+        self.assertEqual(slow_price(habit, layout, program, plan), slow_least_price(habit, layout, program))
+
+    def test_longer_programs(self):
         source = random.Random(13)
-        program = (("get", 0), ("zero", 4), ("set", 1), ("zero", 0), ("get", 2), ("zero", 6), ("go", 0))
-        for _ in range(4):
-            habit = helpers.random_habit(source, 3)
-            layout = helpers.random_layout(source, 3)
-            plan = least_plan(habit, layout, program)
-            comes = can_come(habit, layout)
-            costs = [slow_price(habit, layout, program, tuple(row)) for row in (
-                source.choices(comes, k=7) for _ in range(300))]
-            self.assertLessEqual(slow_price(habit, layout, program, plan), min(costs))
+        done = 0
+        while done < 150:
+            places = source.choice((3, 3, 4))
+            habit = source.choice((calm_habit, helpers.random_habit))(source, places)
+            layout = helpers.random_layout(source, places)
+            program = helpers.random_program(source, places, 14)
+            if len(can_come(habit, layout)) <= 6:
+                try:
+                    self.assert_is_least(habit, layout, program)
+                    done += 1
+                except TooMany:
+                    continue
+
+    def test_branches_with_several_joins_below(self):
+        programs = [
+            (("get", 0), ("zero", 4), ("set", 1), ("zero", 0), ("get", 2), ("zero", 6), ("go", 0)),
+            (("zero", 4), ("get", 0), ("zero", 8), ("go", 9), ("get", 1), ("zero", 8), ("get", 2), ("go", 9), ("get", 0),
+             ("get", 2), ("zero", 8), ("go", 0)),
+            (("get", 0), ("zero", 6), ("get", 1), ("zero", 0), ("plus", 2), ("go", 9), ("get", 2), ("zero", 9), ("go", 0),
+             ("get", 1), ("zero", 9), ("say",)),
+            (("get", 0), ("go", 2), ("zero", 7), ("set", 1), ("set", 2), ("set", 0), ("zero", 2), ("set", 2), ("set", 1),
+             ("zero", 0), ("minus", 0), ("go", 2)),
+        ]
+        source = random.Random(24)
+        for program in programs:
+            for _ in range(12):
+                habit = source.choice((calm_habit, helpers.random_habit))(source, 3)
+                self.assert_is_least(habit, helpers.random_layout(source, 3), program)
 
     def test_instructions_that_are_not_reached_have_none(self):
         plan = least_plan(SWAP, (0, 1), (("go", 2), ("say",), ("stop",), ("get", 0)))

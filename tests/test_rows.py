@@ -227,6 +227,9 @@ class AccessTests(unittest.TestCase):
         self.assertEqual(len(word), 10 + 3 * 120 + 1)
         self.assertTrue(accesses(ROUND, ROUND_START, names[:10], word))
         self.assertIs(shows_access_row(ROUND, ROUND_START, names[:10], word), True)
+        earlier = slow_after(ROUND, ROUND_START, (0,) * 31)
+        self.assertEqual(len(access_row(ROUND, earlier, names[:10])), 400)
+        self.assertIsNone(access_row(ROUND, slow_after(ROUND, ROUND_START, (0,) * 30), names[:10]))
         longer = word + (0,) * 52 + (2,)
         self.assertTrue(accesses(ROUND, ROUND_START, names[:11], longer))
         self.assertIsNone(access_row(ROUND, ROUND_START, names[:11]))
@@ -293,6 +296,14 @@ class CarryTests(unittest.TestCase):
         ]
         for program in programs:
             self.assertIs(carries_all(TWO, START, program, written_for_all(TWO, START, program)), True)
+
+    def test_as_long_as_may_be(self):
+        program = (("get", 0), ("get", 1), ("get", 2)) * 33
+        longest = program + (("say",),) * (4000 - len(written_for_all(ROUND, ROUND_START, program)))
+        restless = written_for_all(ROUND, ROUND_START, longest)
+        self.assertEqual(len(restless), 4000)
+        self.assertIs(carries_all(ROUND, ROUND_START, longest, restless), True)
+        helpers.assert_raises(self, "TooMany", (4000,), written_for_all, ROUND, ROUND_START, longest + (("say",),))
 
     def test_too_long(self):
         program = (("get", 0), ("get", 1), ("get", 2)) * 20
