@@ -1,5 +1,6 @@
 """Plans of still programs on one shelf, and the programs that are written out by them (point 8)."""
 
+from restlesshelf.cheaper import has_cheaper_plan
 from restlesshelf.checks import check_habit, check_layout, check_still, is_layout
 from restlesshelf.errors import BadPlan
 from restlesshelf.flows import flow_of, is_access, reached_of
@@ -26,8 +27,8 @@ def shows_least_plan(habit, layout, program, value):
     check_program_on_shelf(habit, layout, program)
     if not is_plan(habit, layout, program, value):
         return False
-    least = plan_of_least_price(habit, layout, program)
-    return price_of(habit, layout, program, value) == price_of(habit, layout, program, least)
+    # No error for too many choices, which only what looks for a plan without being shown one may raise.
+    return not has_cheaper_plan(habit, layout, program, price_of(habit, layout, program, value))
 
 
 def written(habit, layout, program, plan):

@@ -3,9 +3,12 @@
 import itertools
 import random
 import unittest
+from unittest import mock
 
 from restlesshelf.carrying import carries
+from restlesshelf.cheaper import has_cheaper_plan
 from restlesshelf.errors import BadPlan, TooMany
+from restlesshelf.planning import joins_of
 from restlesshelf.plans import least_plan, price, shows_least_plan, written
 from restlesshelf.programs import flow, reached, run_restless, run_still
 from restlesshelf.shelves import can_come, distance, front_habit, touched, turning_habit
@@ -220,12 +223,6 @@ class LeastPlanTests(unittest.TestCase):
         for habit, layout, count in rows:
             helpers.assert_raises(self, "TooMany", (20000,), least_plan, habit, layout, loops(count))
 
-    def test_too_many_choices_to_tell_a_least_plan(self):
-        row = (SWAP, (0, 1), loops(15))
-        self.assertIs(shows_least_plan(*row, None), False)
-        self.assertIs(shows_least_plan(*row, ((0, 1),) * 29), False)
-        helpers.assert_raises(self, "TooMany", (20000,), shows_least_plan, *row, ((0, 1),) * 30)
-
     def test_the_start_counts_for_the_first_instruction_alone(self):
         front = front_habit(5)
         layout = (0, 1, 2, 3, 4)
@@ -253,6 +250,93 @@ class LeastPlanTests(unittest.TestCase):
             self.assertIs(shows_least_plan(SWAP, (0, 1), THREE, value), False, value)
         self.assertIs(shows_least_plan(SWAP, (0, 1), THREE, ((0, 1), (1, 0), None)), True)
         self.assertIs(shows_least_plan(SWAP, (0, 1), THREE, ((1, 0), (1, 0), None)), False)
+
+
+class ShownBeyondTheBoundTests(unittest.TestCase):
+    """Plans that are shown where there are too many choices for one to be looked for."""
+
+    def assert_shows(self, habit, layout, program, plan, is_least):
+        helpers.assert_raises(self, "TooMany", (20000,), least_plan, habit, layout, program)
+        self.assertIs(shows_least_plan(habit, layout, program, plan), is_least)
+
+    def test_plans_without_a_touch(self):
+        layout = (0, 1, 2, 3, 4)
+        for count in (3, 4, 50):
+            program = tuple(("zero", at) for at in range(count))
+            self.assert_shows(front_habit(5), layout, program, (layout,) * count, True)
+            self.assert_shows(front_habit(5), layout, program, ((1, 0, 2, 3, 4),) * count, False)
+            self.assert_shows(front_habit(5), layout, program, (layout,) * (count - 1) + ((1, 0, 2, 3, 4),), False)
+
+    def test_loops(self):
+        # Each loop costs a touch: its access moves the books, and the way back and the way on lead to unlike layouts.
+        for count in (15, 30, 100):
+            program = loops(count)
+            plan = ((0, 1),) * (2 * count)
+            self.assertEqual(price(SWAP, (0, 1), program, plan), count)
+            self.assert_shows(SWAP, (0, 1), program, plan, True)
+            self.assert_shows(SWAP, (0, 1), program, ((0, 1),) + ((1, 0),) * (2 * count - 1), True)
+            self.assert_shows(SWAP, (0, 1), program, ((1, 0),) * (2 * count), False)
+
+    def test_values_that_are_no_plans(self):
+        row = (SWAP, (0, 1), loops(15))
+        for value, _, _ in bad_plans():
+            self.assert_shows(*row, value, False)
+        self.assert_shows(*row, ((0, 1),) * 29, False)
+        self.assert_shows(*row, ((0, 1),) * 29 + (None,), False)
+        self.assert_shows(*row, [(0, 1)] * 30, False)
+
+    def test_wrong_arguments_are_named(self):
+        row = (front_habit(5), (0, 0, 2, 3, 4), loops(3))
+        helpers.assert_raises(self, "BadLayout", (), shows_least_plan, *row, ())
+
+    def test_against_all_layouts_of_the_joins(self):
+        source = random.Random(25)
+        kinds = ("get", "set", "plus", "zero", "zero", "zero")
+        done = {True: 0, False: 0}
+        while min(done.values()) < 2:
+            habit = source.choice((calm_habit, helpers.random_habit))(source, source.choice((2, 3)))
+            layout = helpers.random_layout(source, len(habit))
+            count = source.choice((9, 12, 18))
+            program = tuple(helpers.random_instruction(source, source.choice(kinds), len(habit), count)
+                            for _ in range(count))
+            if not 20000 < len(can_come(habit, layout)) ** len(joins_of(program)) < 70000:
+                continue
+            with mock.patch("restlesshelf.planning.MOST_CHOICES", 100000):
+                least = slow_price(habit, layout, program, least_plan(habit, layout, program))
+            plan = improved(habit, layout, program, random_plan(source, habit, layout, program))
+            is_least = slow_price(habit, layout, program, plan) == least
+            done[is_least] += 1
+            self.assert_shows(habit, layout, program, plan, is_least)
+            self.assertIs(has_cheaper_plan(habit, layout, program, least), False)
+            self.assertIs(has_cheaper_plan(habit, layout, program, least + 1), True)
+
+    def test_programs_within_the_bound(self):
+        source = random.Random(26)
+        done = 0
+        while done < 40:
+            places = source.choice((2, 3, 3, 4, 4))
+            habit = source.choice((calm_habit, helpers.random_habit))(source, places)
+            layout = helpers.random_layout(source, places)
+            program = helpers.random_program(source, places, 16)
+            try:
+                least = price(habit, layout, program, least_plan(habit, layout, program))
+            except TooMany:
+                continue
+            done += least > 0
+            self.assertIs(has_cheaper_plan(habit, layout, program, least), False)
+            self.assertIs(has_cheaper_plan(habit, layout, program, least + 1), True)
+
+
+def improved(habit, layout, program, plan):
+    """A plan that no other layout of a single instruction makes cheaper."""
+    comes = can_come(habit, layout)
+    least = slow_price(habit, layout, program, plan)
+    for at in [at for at, ahead in enumerate(plan) if ahead is not None] * 2:
+        for ahead in comes:
+            other = plan[:at] + (ahead,) + plan[at + 1:]
+            if slow_price(habit, layout, program, other) < least:
+                plan, least = other, slow_price(habit, layout, program, other)
+    return plan
 
 
 class WrittenTests(unittest.TestCase):
