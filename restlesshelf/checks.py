@@ -10,6 +10,7 @@ from restlesshelf.errors import (
     BadPlace,
     BadProgram,
     BadStand,
+    BadString,
     BadWord,
 )
 
@@ -88,6 +89,16 @@ def is_instruction(value, places, count, is_restless):
 def check_number(value, low, high):
     if not is_number(value, low, high):
         raise BadNumber(f"no number from {low} to {high}")
+
+
+def check_integer(value):
+    if not is_integer(value):
+        raise BadNumber("no integer")
+
+
+def check_string(text):
+    if not isinstance(text, str):
+        raise BadString("no string")
 
 
 def check_places(places):

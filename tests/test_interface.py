@@ -4,6 +4,8 @@ import importlib
 import inspect
 import unittest
 
+from restlesshelf.benches import Shelf
+
 INTERFACE = {
     "shelves": (
         "touched(habit, layout, place)", "after(habit, layout, word)", "can_come(habit, layout)",
@@ -29,7 +31,18 @@ INTERFACE = {
         "test(habit, other, lot)", "shows_test(habit, other, lot, value)", "alike_paper(habit, other, lot)",
         "shows_alike(habit, other, lot, value)", "habits_left(habits, lot, place, word, read, is_marked)",
     ),
+    "looks": (
+        "book_at(habit, layout, word, place)", "books_of(habit, layout, word)",
+        "hidden_losses(habit, layout, word)", "loss_shown(habit, layout, word, spot)",
+    ),
+    "texts": ("write_program(places, program)", "read_program(places, text)"),
+    "blocks": ("play(program, inputs, most)",),
 }
+
+SHELF = (
+    "__init__(self, habit, layout)", "read(self, place)", "fetch(self, name)", "write(self, place, value)",
+    "put(self, name, value)", "touch(self, place)",
+)
 
 
 class InterfaceTests(unittest.TestCase):
@@ -40,6 +53,14 @@ class InterfaceTests(unittest.TestCase):
                 function = getattr(module, text.partition("(")[0])
                 self.assertEqual(function.__module__, module.__name__, text)
                 self.assertEqual(function.__name__ + str(inspect.signature(function)), text)
+
+    def test_the_shelf(self):
+        self.assertEqual(Shelf.__module__, "restlesshelf.benches")
+        for text in SHELF:
+            function = vars(Shelf)[text.partition("(")[0]]
+            self.assertEqual(function.__name__ + str(inspect.signature(function)), text)
+        for name in ("layout", "path", "held"):
+            self.assertIn(name, vars(Shelf))
 
 
 if __name__ == "__main__":

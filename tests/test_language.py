@@ -11,7 +11,7 @@ FILES = sorted(PACKAGE.rglob("*.py"))
 
 ALLOWED_BUILTINS = set(
     "len range enumerate zip min max sum abs sorted reversed int str bool list tuple dict set frozenset isinstance "
-    "ord repr any all divmod pow iter next map super Exception ValueError TypeError KeyError IndexError LookupError "
+    "ord property repr any all divmod pow iter next map super Exception ValueError TypeError KeyError IndexError LookupError "
     "ZeroDivisionError ArithmeticError OverflowError RuntimeError NotImplementedError StopIteration".split()
 )
 LIBRARY = {
@@ -136,7 +136,8 @@ class LanguageTests(unittest.TestCase):
             for node in ast.walk(tree):
                 self.assertNotIsInstance(node, BARRED_NODES, (path, getattr(node, "lineno", None)))
                 self.assertFalse(isinstance(node, ast.Constant) and isinstance(node.value, float), path)
-                self.assertFalse(isinstance(node, ast.FunctionDef) and node.decorator_list, path)
+                for decorator in getattr(node, "decorator_list", ()):
+                    self.assertTrue(isinstance(decorator, ast.Name) and decorator.id == "property", path)
                 if isinstance(node, ast.BinOp) and isinstance(node.op, ast.Pow):
                     self.assertIsInstance(node.right, ast.Constant, (path, node.lineno))
                 if isinstance(node, ast.Compare):

@@ -1,0 +1,55 @@
+"""Equal arguments have equal answers, however often and in whatever order functions are called (point 1)."""
+
+import random
+import unittest
+
+from restlesshelf import apart, blocks, carrying, looks, plans, programs, rows, shelves, texts
+from restlesshelf.errors import ShelfError
+
+FRONT = ((0, 1, 2), (1, 0, 2), (1, 2, 0))
+SWAP = ((1, 0), (0, 1))
+STILL = ((0, 1), (0, 1))
+LOOP = (("get", 0), ("set", 1), ("zero", 0), ("say",))
+BLOCKS = (("a",), (("p", (("say", "a"),)),), (("ask", "a"), ("repeat", 2, (("do", "p"),))))
+
+CALLS = [
+    (shelves.touched, FRONT, (0, 1, 2), 2), (shelves.can_come, FRONT, (2, 0, 1)), (shelves.order, FRONT),
+    (programs.run_still, 2, LOOP, (1, 2), 50), (programs.flow, 2, LOOP), (programs.run_restless, SWAP, LOOP, (), 9),
+    (carrying.carries, SWAP, (0, 1), LOOP, LOOP), (plans.least_plan, FRONT, (0, 1, 2), LOOP),
+    (plans.written, SWAP, (0, 1), LOOP, ((0, 1),) * 4), (rows.stands, (SWAP, STILL), ((0, 1), (1, 0))),
+    (rows.written_for_all, (SWAP, STILL), ((0, 1), (0, 1)), LOOP), (apart.test, STILL, SWAP, (0, 1)),
+    (apart.alike_paper, STILL, SWAP, (1,)), (looks.book_at, FRONT, (2, 0, 1), (1, 2, 0), 1),
+    (looks.books_of, FRONT, (2, 0, 1), (1, 2, 0)), (looks.loss_shown, FRONT, (2, 0, 1), (1, 2, 0), 0),
+    (looks.hidden_losses, FRONT, (2, 0, 1), (1, 2, 0)), (texts.write_program, 2, LOOP),
+    (texts.read_program, 2, "get 0\nset 1\nzero 0\nsay"), (texts.read_program, 2, "get 0\nset 2"),
+    (blocks.play, BLOCKS, (3,), 50), (blocks.play, BLOCKS, (3,), 2), (blocks.play, (), (3,), 2),
+    (shelves.touched, FRONT, (0, 1), 2), (looks.book_at, FRONT, (2, 0, 1), (3,), 1), (plans.least_plan, (), (), ()),
+]
+
+
+def answer(call):
+    """What a call returns, or the error that it raises, as a text."""
+    try:
+        return repr(call[0](*call[1:]))
+    except ShelfError as error:
+        return f"{error.__class__.__name__} {vars(error)}"
+
+
+class CallTests(unittest.TestCase):
+    def test_any_order(self):
+        first = [answer(call) for call in CALLS]
+        source = random.Random(71)
+        for _ in range(8):
+            order = [source.randrange(len(CALLS)) for _ in range(3 * len(CALLS))]
+            for at in order:
+                self.assertEqual(answer(CALLS[at]), first[at], CALLS[at])
+
+    def test_arguments_are_kept(self):
+        before = repr([call[1:] for call in CALLS])
+        for call in CALLS:
+            answer(call)
+        self.assertEqual(repr([call[1:] for call in CALLS]), before)
+
+
+if __name__ == "__main__":
+    unittest.main()
