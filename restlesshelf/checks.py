@@ -114,9 +114,9 @@ def check_habit(habit):
             raise BadHabit(place)
 
 
-def check_habits(habits):
+def check_habits(habits, most=MOST_HABITS):
     """Checks habits of shelves with as many places."""
-    if not is_row(habits, 1, MOST_HABITS):
+    if not is_row(habits, 1, most):
         raise BadHabits(None)
     for index, habit in enumerate(habits):
         if not is_habit(habit) or len(habit) != len(habits[0]):

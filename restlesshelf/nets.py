@@ -49,7 +49,7 @@ class Net:
         self.near[one][other] = rows
         self.near[other][one] = turned(rows)
 
-    def remove(self, node):
+    def drop_node(self, node):
         for other in list(self.near[node]):
             del self.near[other][node]
         del self.near[node]
@@ -63,20 +63,20 @@ class Net:
         twin.near = {one: dict(self.near[one]) for one in self.near}
         for other in self.near[node]:
             twin.add_single(other, self.near[node][other][choice])
-        twin.remove(node)
+        twin.drop_node(node)
         return twin
 
     def settle(self, bound):
         """Takes out nodes, and choices with which a bound cannot be kept below, until it finds no more."""
         many = None
-        while self.sure < bound and many != self.count():
-            many = self.count()
+        while self.sure < bound and many != self.choices_left():
+            many = self.choices_left()
             self.take_out_nodes()
             nodes = list(self.single)
             self.sweep(nodes, bound)
             self.sweep(nodes[::-1], bound)
 
-    def count(self):
+    def choices_left(self):
         return sum([len(costs) for costs in self.single.values()])
 
     def take_out_nodes(self):
@@ -93,15 +93,15 @@ class Net:
         costs = self.single[node]
         if not others:
             self.sure += min(costs)
-            self.remove(node)
+            self.drop_node(node)
             return
         ways = [sums_of(row, costs) for row in self.near[others[0]][node]]
         if len(others) == 1:
             self.add_single(others[0], [min(row) for row in ways])
-            self.remove(node)
+            self.drop_node(node)
         else:
             rows = led_together(ways, self.near[others[1]][node])
-            self.remove(node)
+            self.drop_node(node)
             self.add_pair(others[0], others[1], rows)
 
     def sweep(self, nodes, bound):
@@ -122,7 +122,7 @@ class Net:
         return least
 
     def drop_choices(self, node, bound):
-        """Drops the choices with which a bound cannot be kept below; one is left, if it is none of those or not."""
+        """Drops the choices with which a bound cannot be kept below, but for the cheapest one."""
         costs = self.single[node]
         kept = [at for at, cost in enumerate(costs) if self.sure + cost < bound]
         if not kept:

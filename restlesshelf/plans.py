@@ -28,7 +28,7 @@ def shows_least_plan(habit, layout, program, value):
     if not is_plan(habit, layout, program, value):
         return False
     # No error for too many choices, which only what looks for a plan without being shown one may raise.
-    return not has_cheaper_plan(habit, layout, program, price_of(habit, layout, program, value))
+    return not has_cheaper_plan(habit, layout, program, value)
 
 
 def written(habit, layout, program, plan):

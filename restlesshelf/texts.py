@@ -1,18 +1,10 @@
 """The texts of programs (point 15)."""
 
-from restlesshelf.checks import (
-    ACCESSES,
-    BARE,
-    GREATEST,
-    JUMPS,
-    MOST_RESTLESS,
-    check_places,
-    check_restless,
-)
+from restlesshelf.checks import BARE, GREATEST, JUMPS, MOST_RESTLESS, check_places, check_restless
 from restlesshelf.errors import BadLine
 from restlesshelf.lines import lines_in, number_told
 
-NUMBERED = ACCESSES + JUMPS + ("put", "touch")
+NUMBERED = ("get", "set", "plus", "minus", "put", "zero", "go", "touch")
 
 
 def write_program(places, program):

@@ -3,7 +3,9 @@
 import random
 import unittest
 
-from restlesshelf import apart, blocks, carrying, looks, plans, programs, rows, shelves, texts
+from restlesshelf import apart, blocks, carrying, looks, making, phrases, plans, programs, rows, running, shelves
+from restlesshelf import texts, trees
+from restlesshelf.benches import Shelf
 from restlesshelf.errors import ShelfError
 
 FRONT = ((0, 1, 2), (1, 0, 2), (1, 2, 0))
@@ -11,6 +13,8 @@ SWAP = ((1, 0), (0, 1))
 STILL = ((0, 1), (0, 1))
 LOOP = (("get", 0), ("set", 1), ("zero", 0), ("say",))
 BLOCKS = (("a",), (("p", (("say", "a"),)),), (("ask", "a"), ("repeat", 2, (("do", "p"),))))
+MANY = (STILL, SWAP, STILL)
+TREE = ("test", (0, (), 0), ("left", (0, 2)), ("left", (1,)))
 
 CALLS = [
     (shelves.touched, FRONT, (0, 1, 2), 2), (shelves.can_come, FRONT, (2, 0, 1)), (shelves.order, FRONT),
@@ -23,7 +27,14 @@ CALLS = [
     (looks.hidden_losses, FRONT, (2, 0, 1), (1, 2, 0)), (texts.write_program, 2, LOOP),
     (texts.read_program, 2, "get 0\nset 1\nzero 0\nsay"), (texts.read_program, 2, "get 0\nset 2"),
     (blocks.play, BLOCKS, (3,), 50), (blocks.play, BLOCKS, (3,), 2), (blocks.play, (), (3,), 2),
-    (shelves.touched, FRONT, (0, 1), 2), (looks.book_at, FRONT, (2, 0, 1), (3,), 1), (plans.least_plan, (), (), ()),
+    (making.still_of, BLOCKS), (making.places_of, BLOCKS), (phrases.write_blocks, BLOCKS),
+    (phrases.read_blocks, "names a\nsay a - 2"), (phrases.read_blocks, "names a\nsay b"),
+    (trees.least_tree, MANY, (0, 1)), (trees.least_worst, MANY, (0, 1)), (trees.worst, MANY, (0, 1), TREE),
+    (trees.learned, MANY, (0, 1), TREE, 2), (trees.shows_tree, MANY, (0, 1), TREE),
+    (lambda: trees.learn(MANY, (0, 1), TREE, Shelf(SWAP, (1, 0))),), (trees.learn, MANY, (0, 1), TREE, None),
+    (running.touches_on, SWAP, LOOP, (1,), 20), (running.calmest_plan, SWAP, (0, 1), LOOP),
+    (running.way_prices, SWAP, (0, 1), LOOP, ((0, 1),) * 4), (running.dearest_ring, SWAP, (0, 1), LOOP, ((0, 1),) * 4),
+    (running.dearest_way, SWAP, (0, 1), LOOP[:2], ((0, 1),) * 2), (shelves.touched, FRONT, (0, 1), 2), (looks.book_at, FRONT, (2, 0, 1), (3,), 1), (plans.least_plan, (), (), ()),
 ]
 
 

@@ -37,6 +37,17 @@ INTERFACE = {
     ),
     "texts": ("write_program(places, program)", "read_program(places, text)"),
     "blocks": ("play(program, inputs, most)",),
+    "making": ("still_of(program)", "places_of(program)"),
+    "phrases": ("write_blocks(program)", "read_blocks(text)"),
+    "trees": (
+        "least_tree(habits, lot)", "least_worst(habits, lot)", "worst(habits, lot, tree)",
+        "shows_tree(habits, lot, value)", "learned(habits, lot, tree, index)", "learn(habits, lot, tree, shelf)",
+    ),
+    "running": (
+        "touches_on(habit, program, inputs, most)", "way_prices(habit, layout, program, plan)",
+        "dearest_ring(habit, layout, program, plan)", "dearest_way(habit, layout, program, plan)",
+        "calmest_plan(habit, layout, program)",
+    ),
 }
 
 SHELF = (

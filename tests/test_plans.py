@@ -6,9 +6,10 @@ import unittest
 from unittest import mock
 
 from restlesshelf.carrying import carries
-from restlesshelf.cheaper import has_cheaper_plan
+from restlesshelf.cheaper import has_plan_below
 from restlesshelf.errors import BadPlan, TooMany
-from restlesshelf.planning import joins_of
+from restlesshelf.grounds import Ground
+from restlesshelf.planning import Search, joins_of
 from restlesshelf.plans import least_plan, price, shows_least_plan, written
 from restlesshelf.programs import flow, reached, run_restless, run_still
 from restlesshelf.shelves import can_come, distance, front_habit, touched, turning_habit
@@ -307,8 +308,9 @@ class ShownBeyondTheBoundTests(unittest.TestCase):
             is_least = slow_price(habit, layout, program, plan) == least
             done[is_least] += 1
             self.assert_shows(habit, layout, program, plan, is_least)
-            self.assertIs(has_cheaper_plan(habit, layout, program, least), False)
-            self.assertIs(has_cheaper_plan(habit, layout, program, least + 1), True)
+            search = Search(Ground(habit, layout), program)
+            self.assertIs(has_plan_below(search, least), False)
+            self.assertIs(has_plan_below(search, least + 1), True)
 
     def test_programs_within_the_bound(self):
         source = random.Random(26)
@@ -323,8 +325,9 @@ class ShownBeyondTheBoundTests(unittest.TestCase):
             except TooMany:
                 continue
             done += least > 0
-            self.assertIs(has_cheaper_plan(habit, layout, program, least), False)
-            self.assertIs(has_cheaper_plan(habit, layout, program, least + 1), True)
+            search = Search(Ground(habit, layout), program)
+            self.assertIs(has_plan_below(search, least), False)
+            self.assertIs(has_plan_below(search, least + 1), True)
 
 
 def improved(habit, layout, program, plan):
