@@ -209,6 +209,23 @@ class StillTests(unittest.TestCase):
         body = (("while", ("a", True), (("say", 1),) * 15), ("if", (1, False), (), (("ask", "a"),)))
         self.assertEqual(len(still_of(with_block(*body))), 4 + 30 + 3 + 2)
 
+    def test_200_and_201_with_each_part(self):
+        parts = (
+            ("stop",), ("ask", "a"), ("say", 1), ("say", ("minus", 3, "a")), ("let", "a", "a"), ("do", "p"),
+            ("let", "a", ("plus", ("minus", 1, "a"), ("plus", "a", -1))), ("if", (("plus", "a", 1), True), (("stop",),), ()),
+            ("if", ("a", False), (), (("say", 1), ("stop",))), ("while", (("plus", "a", 1), True), ()),
+            ("while", (("plus", "a", 1), False), (("stop",),)), ("repeat", 3, (("stop",), ("ask", "a"))), ("repeat", 5, ()),
+        )
+        for part in parts:
+            program = (("a",), (("p", (("say", 1), ("stop",))),), (part,))
+            many = len(slow_rows(program[2], program[0], dict(program[1]), 0))
+            halves, one = divmod(200 - many, 2)
+            filled = (part,) + (("repeat", 6, (("say", 1),) * (halves // 6)),) + (("say", 1),) * (halves % 6)
+            filled += (("stop",),) * one
+            self.assertEqual(len(still_of(program[:2] + (filled,))), 200, part)
+            self.assertEqual(still_of(program[:2] + (filled,)), slow_still(program[:2] + (filled,)))
+            helpers.assert_raises(self, "TooMany", (200,), still_of, program[:2] + (filled + (("stop",),),))
+
     def test_far_too_many(self):
         block = (("say", 1),)
         void = ()

@@ -7,6 +7,7 @@ from fractions import Fraction
 
 from restlesshelf.plans import price, written
 from restlesshelf.programs import flow, reached
+from restlesshelf.rings import dearer_ring, has_ring_as_dear
 from restlesshelf.running import calmest_plan, dearest_ring, dearest_way, touches_on, way_prices
 from restlesshelf.shelves import can_come, distance, front_habit, touched, turning_habit
 from tests import helpers
@@ -245,6 +246,21 @@ class WayTests(unittest.TestCase):
         rows = [helpers.bad_habits(), helpers.bad_layouts(), helpers.bad_stills(), bad_plans()]
         for function in (way_prices, dearest_ring, dearest_way):
             helpers.assert_names_wrong_arguments(self, function, (SWAP, (0, 1), THREE, ((0, 1), (0, 1), None)), rows)
+
+
+class RingTests(unittest.TestCase):
+    def test_as_dear_and_dearer(self):
+        source = random.Random(119)
+        for _ in range(300):
+            count = source.randint(1, 6)
+            pairs = {(at, (at + 1) % count) for at in range(count)}
+            pairs |= {(source.randrange(count), source.randrange(count)) for _ in range(source.choice((0, 0, 2)))}
+            ways = {pair: source.choice((0, 0, 1, 2)) for pair in sorted(pairs)}
+            best = max(mean_of(ways, ring) for ring in simple_rings(sorted(ways)))
+            for low in range(1, 9):
+                for top in range(0, 2 * low + 2):
+                    self.assertIs(has_ring_as_dear(ways, (top, low)), Fraction(top, low) <= best)
+                    self.assertIs(dearer_ring(ways, (top, low)) is not None, Fraction(top, low) < best)
 
 
 class CalmestPlanTests(unittest.TestCase):

@@ -275,6 +275,14 @@ class TreeTests(unittest.TestCase):
         for value, _, _ in bad_trees():
             self.assertIs(shows_tree(self.MANY, LOT, value), False, value)
         self.assertIs(shows_tree(self.MANY, LOT, least_tree(self.MANY, LOT)), True)
+        whole = ("left", (0, 1))
+        for habits in ((SWAP,), (SWAP, SWAP)):
+            good = ("left", (0, 1)[:len(habits)])
+            self.assertIs(shows_tree(habits, LOT, good), True)
+            for value in [value for value, _, _ in bad_trees()] + [good + (None,), good * 2, list(good), FIRST, whole * 2]:
+                if value != good:
+                    self.assertIs(shows_tree(habits, LOT, value), False, value)
+                    helpers.assert_raises(self, "BadTree", (), worst, habits, LOT, value)
 
     def test_wrong_arguments(self):
         rows = [bad_many(), helpers.bad_lots(), bad_trees()]
