@@ -12,8 +12,11 @@ def lines_in(text):
 
 
 def number_told(word, most):
-    """The number that a word of plain figures tells, None for any other word and for a number above most."""
-    if not word:
+    """The number that a word of plain figures tells, None for any other word and for a number above most.
+
+    Plain figures are those by which a number is written: no zeros stand ahead of them.
+    """
+    if not word or (word[0] == "0" and len(word) > 1):
         return None
     number = 0
     for figure in word:
@@ -24,3 +27,11 @@ def number_told(word, most):
         if number > most:
             return None
     return number
+
+
+def signed_number_told(word, most):
+    """The same for a word that has a minus ahead of its figures if its number is below 0, and only then."""
+    if word[:1] != "-":
+        return number_told(word, most)
+    number = number_told(word[1:], most)
+    return None if number is None or number == 0 else -number

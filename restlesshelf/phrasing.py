@@ -13,7 +13,7 @@ from restlesshelf.blockforms import (
     is_sum,
 )
 from restlesshelf.errors import BadLine
-from restlesshelf.lines import number_told
+from restlesshelf.lines import number_told, signed_number_told
 
 MOST_OPEN = 6
 SIGN_WORDS = {"plus": "+", "minus": "-"}
@@ -50,8 +50,8 @@ class LineReader:
             self.refuse()
         return self.take()
 
-    def take_number(self, most):
-        number = number_told(self.here(), most)
+    def take_number(self, number):
+        """Takes a word for the number that it tells, None if it tells none that may stand there."""
         if number is None:
             self.refuse()
         self.at += 1
@@ -85,18 +85,7 @@ class LineReader:
             return value
         if word in names:
             return self.take()
-        return self.take_term()
-
-    def take_term(self):
-        """Takes an integer, which has a minus ahead of it if it is below 0, and only then."""
-        word = self.here()
-        if word[:1] != "-":
-            return self.take_number(GREATEST_TERM)
-        number = number_told(word[1:], GREATEST_TERM)
-        if number is None or number == 0:
-            self.refuse()
-        self.at += 1
-        return -number
+        return self.take_number(signed_number_told(word, GREATEST_TERM))
 
     def take_condition(self, names):
         """Takes the test of an if or while."""
@@ -209,7 +198,7 @@ class BlockReader:
         """Reads the line of a part, whose blocks are read behind it."""
         self.parts_read += 1
         if word == "repeat":
-            self.frames.append(Frame(word, line.take_number(MOST_ROUNDS)))
+            self.frames.append(Frame(word, line.take_number(number_told(line.here(), MOST_ROUNDS))))
         elif word in HOLDERS:
             self.frames.append(Frame(word, line.take_condition(self.names)))
         elif word == "let":

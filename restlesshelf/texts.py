@@ -2,7 +2,7 @@
 
 from restlesshelf.checks import BARE, GREATEST, JUMPS, MOST_RESTLESS, check_places, check_restless
 from restlesshelf.errors import BadLine
-from restlesshelf.lines import lines_in, number_told
+from restlesshelf.lines import lines_in, number_told, signed_number_told
 
 NUMBERED = ("get", "set", "plus", "minus", "put", "zero", "go", "touch")
 
@@ -47,10 +47,7 @@ def second_number(places, words):
         return None
     word, told = words[0], words[1]
     if word == "put":
-        if told[0] == "-":
-            number = number_told(told[1:], GREATEST)
-            return None if number is None else -number
-        return number_told(told, GREATEST)
+        return signed_number_told(told, GREATEST)
     if word in JUMPS:
         return number_told(told, MOST_RESTLESS)
     return number_told(told, places - 1)

@@ -39,7 +39,7 @@ def pushed(level, value):
 
 def number_of(word):
     """The integer of a sum that a word tells, None for another word."""
-    told = re.fullmatch("(-?)0*([0-9]{1,4})", word)
+    told = re.fullmatch("(-?)(0|[1-9][0-9]{0,3})", word)
     if told is None or int(told[2]) > 1000 or (told[1] and int(told[2]) == 0):
         return None
     return int(told[1] + told[2])
@@ -167,7 +167,7 @@ class SlowReader:
         return 1
 
     def line_repeat(self, words):
-        if len(words) < 2 or re.fullmatch("0*[0-6]", words[1]) is None:
+        if len(words) < 2 or re.fullmatch("[0-6]", words[1]) is None:
             raise Wrong(1)
         self.open.append(["repeat", int(words[1]), [[]]])
         return 2

@@ -75,16 +75,24 @@ class TextTests(unittest.TestCase):
             self.assert_bad_line(f"{word} x y", 1, 2)
 
     def test_a_minus_is_for_put_alone(self):
-        self.assertEqual(read_program(2, "put -7\nput -0\nput -1000000"), (("put", -7), ("put", 0), ("put", -1000000)))
+        self.assertEqual(read_program(2, "put -7\nput 0\nput -1000000"), (("put", -7), ("put", 0), ("put", -1000000)))
         for word in ELEVEN:
             if word not in ("put", "say", "ask", "stop"):
                 self.assert_bad_line(word + " -1", 1, 2)
                 self.assert_bad_line(word + " -0", 1, 2)
 
-    def test_zeros_ahead_are_figures(self):
-        self.assertEqual(read_program(2, "put 007\nput -00\nget 01\ngo 0003"), (
-            ("put", 7), ("put", 0), ("get", 1), ("go", 3)))
-        self.assertEqual(read_program(2, "put " + "0" * 6000 + "5\nput -" + "0" * 6000), (("put", 5), ("put", 0)))
+    def test_plain_figures(self):
+        # A number is read as write_program writes it alone: no zeros ahead of it, and no minus ahead of 0.
+        for word in ELEVEN:
+            if word not in ("say", "ask", "stop"):
+                self.assertEqual(read_program(2, f"{word} 0"), ((word, 0),))
+                for wrong in ("00", "01", "001", "-00", "-01", "0" * 6000, "0" * 6000 + "1"):
+                    self.assert_bad_line(f"{word} {wrong}", 1, 2)
+                    self.assert_bad_line(f"say\n{word}  {wrong} x\nx", 2, 2)
+        for wrong in ("-0", "-00", "-07", "-0" + "9" * 6000, "-" + "0" * 6000):
+            self.assert_bad_line("put " + wrong, 1, 2)
+        self.assertEqual(read_program(2, "put 10\nput -10\nput 1000000"), (("put", 10), ("put", -10), ("put", 1000000)))
+        self.assert_bad_line("set 0\ngo 00 6\nsay\nset 2\n1\nzero 3\ntouch 0", 2, 2, 3)
 
     def test_bounds(self):
         self.assert_bad_line("put 1000001", 1, 2)
