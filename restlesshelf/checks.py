@@ -137,6 +137,12 @@ def check_layout(layout, places):
         raise BadLayout(f"no layout of {places} places")
 
 
+def check_row(row, most):
+    """Checks a row of the unlike numbers 0, 1 and so on, of 1 to most: an order, or a layout of a shelf of any size."""
+    if not is_row(row, 1, most) or not is_layout(row, len(row)):
+        raise BadLayout(f"no row of 1 to {most} unlike numbers")
+
+
 def check_place(place, places):
     if not is_place(place, places):
         raise BadPlace(f"no place of {places} places")

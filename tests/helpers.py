@@ -189,3 +189,9 @@ def said_alike(still, restless):
     if word == "stopped":
         return restless == still
     return restless[0][:len(said)] == said and restless[1] == "running"
+
+
+def bad_rows_of_books(most):
+    """Values that are no row of the unlike numbers 0, 1 and so on of 1 to most."""
+    values = ((), 0, 3, (1,), (0, 0), (0, 2), (-1, 0), (1, 2), (False, True), (0, "1"), (0, 1, 1), tuple(range(most + 1)))
+    return awaited("BadLayout", (), ODD + values)

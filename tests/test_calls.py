@@ -3,8 +3,8 @@
 import random
 import unittest
 
-from restlesshelf import apart, blocks, carrying, looks, making, phrases, plans, programs, rows, running, shelves
-from restlesshelf import texts, trees
+from restlesshelf import apart, blocks, carrying, groups, joins, kinds, looks, making, phrases, plans, programs, rows
+from restlesshelf import running, shelves, texts, trees, walks
 from restlesshelf.benches import Shelf
 from restlesshelf.errors import ShelfError
 
@@ -34,7 +34,16 @@ CALLS = [
     (lambda: trees.learn(MANY, (0, 1), TREE, Shelf(SWAP, (1, 0))),), (trees.learn, MANY, (0, 1), TREE, None),
     (running.touches_on, SWAP, LOOP, (1,), 20), (running.calmest_plan, SWAP, (0, 1), LOOP),
     (running.way_prices, SWAP, (0, 1), LOOP, ((0, 1),) * 4), (running.dearest_ring, SWAP, (0, 1), LOOP, ((0, 1),) * 4),
-    (running.dearest_way, SWAP, (0, 1), LOOP[:2], ((0, 1),) * 2), (shelves.touched, FRONT, (0, 1), 2), (looks.book_at, FRONT, (2, 0, 1), (3,), 1), (plans.least_plan, (), (), ()),
+    (running.dearest_way, SWAP, (0, 1), LOOP[:2], ((0, 1),) * 2), (shelves.touched, FRONT, (0, 1), 2),
+    (looks.book_at, FRONT, (2, 0, 1), (3,), 1), (plans.least_plan, (), (), ()),
+    (walks.walked, FRONT, (2, 0, 1), (1, 1, 0)), (walks.front_walk, (2, 0, 1), (1, 1, 0)), (walks.best_still, 3, (1, 1, 2)),
+    (walks.front_bound, (2, 0, 1), (1, 0, 2), (1, 1, 0)), (walks.crossed, (0, 1), (0, 1, 2)),
+    (kinds.front_word, (2, 0, 1), (1, 0, 2)), (kinds.neighbour_word, (2, 0, 1), (1, 0, 2)),
+    (kinds.turning_word, (2, 0, 1), (0, 1, 2)), (kinds.kept_end, (2, 0, 1), (0, 2)),
+    (groups.word_for, FRONT, (2, 0, 1)), (groups.comes_round, FRONT, (2, 1)), (groups.blocks, (STILL, STILL)),
+    (groups.blocks, ((0, 1, 2),) * 3), (groups.never, SWAP, (1, 0)), (groups.shows_never, SWAP, (1, 0), ("closed",)),
+    (groups.orbits, STILL), (groups.alone, FRONT, 1), (groups.stirring, FRONT), (joins.beside, FRONT, SWAP),
+    (joins.within, SWAP, STILL), (joins.within, FRONT, STILL), (joins.called, FRONT, (2, 0, 1)), (joins.backed, FRONT),
 ]
 
 

@@ -48,6 +48,22 @@ INTERFACE = {
         "dearest_ring(habit, layout, program, plan)", "dearest_way(habit, layout, program, plan)",
         "calmest_plan(habit, layout, program)",
     ),
+    "walks": (
+        "walked(habit, layout, names)", "front_walk(order, names)", "still_walk(order, names)", "best_still(many, names)",
+        "crossed(one, other)", "front_bound(order, other, names)",
+    ),
+    "kinds": (
+        "kept_end(one, other)", "front_word(one, other)", "front_distance(one, other)", "neighbour_word(one, other)",
+        "neighbour_distance(one, other)", "turning_word(one, other)",
+    ),
+    "groups": (
+        "made_by(habit, word)", "word_for(habit, permutation)", "comes_round(habit, word)", "alone(habit, place)",
+        "stirring(habit)", "all_agree(habit)", "orbits(habit)", "are_even(habit)", "blocks(habit)",
+        "never(habit, permutation)", "shows_never(habit, permutation, value)",
+    ),
+    "joins": (
+        "beside(one, other)", "within(outer, inner)", "called(habit, order)", "backed(habit)", "doubled(habit)",
+    ),
 }
 
 SHELF = (
