@@ -1,10 +1,12 @@
 """What a value must be to be allowed as an argument."""
 
 from restlesshelf.errors import (
+    BadCopies,
     BadHabit,
     BadHabits,
     BadInputs,
     BadLayout,
+    BadLayouts,
     BadNames,
     BadNumber,
     BadPlace,
@@ -19,6 +21,7 @@ MOST_PLACES = 5
 MOST_TOUCHES = 400
 MOST_INPUTS = 50
 MOST_HABITS = 3
+MOST_START_LAYOUTS = 24
 MOST_STILL = 200
 MOST_RESTLESS = 4000
 GREATEST = 1000000
@@ -148,10 +151,27 @@ def check_place(place, places):
         raise BadPlace(f"no place of {places} places")
 
 
+def is_lot(value, places):
+    """Whether a value is an ascending tuple of at least one place or, which looks alike, book."""
+    return is_row(value, 1, places) and are_places(value, places) and is_rising(value)
+
+
 def check_lot(lot, places):
-    """Checks an ascending tuple of at least one place."""
-    if not is_row(lot, 1, places) or not are_places(lot, places) or not is_rising(lot):
+    if not is_lot(lot, places):
         raise BadPlace("no ascending tuple of places")
+
+
+def check_copies(copies, places):
+    if not is_lot(copies, places):
+        raise BadCopies("no ascending tuple of books")
+
+
+def check_layouts(layouts, places):
+    """Checks the layouts that a shelf may have, of which nobody knows which one it is."""
+    if not is_row(layouts, 1, MOST_START_LAYOUTS) or not all([is_layout(layout, places) for layout in layouts]):
+        raise BadLayouts("no tuple of so many layouts")
+    if not is_rising(layouts):
+        raise BadLayouts("the layouts do not ascend")
 
 
 def check_name(name, places):

@@ -11,8 +11,7 @@ from restlesshelf.writing import START, written_out
 
 def price(habit, layout, program, plan):
     """How many blind touches a plan costs, each way from instruction to instruction counted once."""
-    check_program_on_shelf(habit, layout, program)
-    check_plan(habit, layout, program, plan)
+    check_plan_on_shelf(habit, layout, program, plan)
     return price_of(habit, layout, program, plan)
 
 
@@ -33,11 +32,10 @@ def shows_least_plan(habit, layout, program, value):
 
 def written(habit, layout, program, plan):
     """A restless program that carries a still one, with no more blind touches than the plan's price."""
-    check_program_on_shelf(habit, layout, program)
-    check_plan(habit, layout, program, plan)
+    check_plan_on_shelf(habit, layout, program, plan)
     kept = [at for at in reached_of(program) if is_access(program[at])]
-    places = {at: plan[at][program[at][1]] for at in kept}
-    return written_out(program, places, plan_words(habit, layout, program, plan))
+    deeds = {at: ((program[at][0], plan[at][program[at][1]]),) for at in kept}
+    return written_out(program, deeds, plan_words(habit, layout, program, plan))
 
 
 def check_program_on_shelf(habit, layout, program):
@@ -49,6 +47,11 @@ def check_program_on_shelf(habit, layout, program):
 def check_plan(habit, layout, program, plan):
     if not is_plan(habit, layout, program, plan):
         raise BadPlan("no plan of the program from the layout")
+
+
+def check_plan_on_shelf(habit, layout, program, plan):
+    check_program_on_shelf(habit, layout, program)
+    check_plan(habit, layout, program, plan)
 
 
 def is_plan(habit, layout, program, value):

@@ -12,9 +12,9 @@ from restlesshelf.checks import (
     is_word,
 )
 from restlesshelf.errors import NoWay, TooMany
-from restlesshelf.flows import found_in_order, is_access, names_used, nexts_of
+from restlesshelf.flows import is_access, names_used
 from restlesshelf.moves import depths, least_word, move_stand, places_of_habit
-from restlesshelf.writing import START, written_out
+from restlesshelf.writing import ways_from, written_out
 
 MOST_STANDS = 20000
 MOST_ROW = 12
@@ -86,9 +86,15 @@ def written_for_all(habits, stand, program):
     if not is_met_throughout(habits, stand, program):
         raise NoWay("a name that the program uses cannot be brought to one place on all shelves at once")
     check_stands(habits, stand)
-    ahead, words = ways_for_all(habits, stand, program)
-    places = {at: ahead[at][0][program[at][1]] for at in ahead if is_access(program[at])}
-    return written_out(program, places, words)
+    ahead, words = ways_from(
+        program,
+        stand,
+        lambda at, one: ready_stand(habits, one, program[at]),
+        lambda at, one: stand_behind(habits, one, program[at]),
+        lambda one, other: word_to_stand(habits, one, other),
+    )
+    deeds = {at: ((program[at][0], ahead[at][0][program[at][1]]),) for at in ahead if is_access(program[at])}
+    return written_out(program, deeds, words)
 
 
 def check_program_for_all(habits, stand, program):
@@ -165,26 +171,6 @@ def shortest_access(habits, stand, names):
     )
     # A tuple of more places is no word.
     return None if found is None or len(found) > MOST_TOUCHES else found
-
-
-def ways_for_all(habits, stand, program):
-    """A stand ahead of each reached instruction, and the blind touches between them.
-
-    An instruction has the stand that the first way to it brings, with its name brought to one place if it is an
-    access. Each other way to it must then lead to this stand.
-    """
-    ahead, words = {}, {}
-    ahead[0], words[START, 0] = ready_stand(habits, stand, program[0])
-    for at in found_in_order(program):
-        behind = stand_behind(habits, ahead[at], program[at])
-        for goal in nexts_of(program, at):
-            if goal == len(program):
-                continue
-            if goal in ahead:
-                words[at, goal] = word_to_stand(habits, behind, ahead[goal])
-            else:
-                ahead[goal], words[at, goal] = ready_stand(habits, behind, program[goal])
-    return ahead, words
 
 
 def ready_stand(habits, stand, instruction):

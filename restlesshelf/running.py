@@ -4,7 +4,7 @@ from restlesshelf.checks import check_habit, check_inputs, check_number, check_r
 from restlesshelf.flows import flow_of, is_access, reached_of
 from restlesshelf.grounds import Ground
 from restlesshelf.planning import check_choices, rows_of
-from restlesshelf.plans import check_plan, check_program_on_shelf, plan_words
+from restlesshelf.plans import check_plan_on_shelf, check_program_on_shelf, plan_words
 from restlesshelf.programs import MOST_RESTLESS_STEPS, Machine
 from restlesshelf.rings import any_ring, has_ring_as_dear, ring_of_greatest_mean
 from restlesshelf.writing import START
@@ -64,11 +64,6 @@ def calmest_plan(habit, layout, program):
     for at in numbers:
         layouts[at] = ground.layouts[numbers[at]]
     return (tuple([layouts.get(at) for at in range(len(program))]), mean)
-
-
-def check_plan_on_shelf(habit, layout, program, plan):
-    check_program_on_shelf(habit, layout, program)
-    check_plan(habit, layout, program, plan)
 
 
 def ways_by_plan(habit, layout, program, plan):

@@ -2,7 +2,7 @@
 
 from restlesshelf.checks import JUMPS, MOST_RESTLESS
 from restlesshelf.errors import TooMany
-from restlesshelf.flows import is_access, reached_of
+from restlesshelf.flows import found_in_order, is_access, nexts_of, reached_of
 
 # The start in the stead of an instruction from which the first one is come to.
 START = -1
@@ -31,11 +31,32 @@ class Draft:
         return tuple([(row[0], self.marks[row[1]]) if row[0] in JUMPS else row for row in self.rows])
 
 
-def written_out(program, places, words):
+def ways_from(program, start, ready, behind, between):
+    """What is ahead of each reached instruction, a layout or several, and the blind touches between them.
+
+    An instruction has ahead of it what the first way to it brings, made ready for it; each other way must lead to this.
+    ready tells what is made ready for an instruction and the word to it, behind what is behind an instruction, and
+    between the word that leads one layout, or several, to another.
+    """
+    ahead, words = {}, {}
+    ahead[0], words[START, 0] = ready(0, start)
+    for at in found_in_order(program):
+        left = behind(at, ahead[at])
+        for goal in nexts_of(program, at):
+            if goal == len(program):
+                continue
+            if goal in ahead:
+                words[at, goal] = between(left, ahead[goal])
+            else:
+                ahead[goal], words[at, goal] = ready(goal, left)
+    return ahead, words
+
+
+def written_out(program, deeds, words):
     """The restless program that does the instructions of a still one that are reached.
 
-    places tells the place that each access touches, words the blind touches on the way from one instruction to
-    another, both for pairs of flow; no word is needed on a way to the end.
+    deeds tells for each access the instructions that do it, words the blind touches on the way from one instruction
+    to another, both for pairs of flow; no word is needed on a way to the end.
     """
     kept = reached_of(program)
     end = len(program)
@@ -43,7 +64,7 @@ def written_out(program, places, words):
     draft.touch_along(words[START, 0])
     for at, following in zip(kept, kept[1:] + (end,)):
         draft.mark(at)
-        write_one(draft, program, at, following, places, words)
+        write_one(draft, program, at, following, deeds, words)
     draft.mark(end)
     draft.write(("stop",))
     for at in kept:
@@ -55,7 +76,7 @@ def written_out(program, places, words):
     return draft.finished()
 
 
-def write_one(draft, program, at, following, places, words):
+def write_one(draft, program, at, following, deeds, words):
     """Writes an instruction and its way to the next one, which follows if it is the one that is written then."""
     instruction = program[at]
     word = instruction[0]
@@ -69,7 +90,8 @@ def write_one(draft, program, at, following, places, words):
         draft.write(("zero", zero_mark(program, at, words)))
         draft.mark(("behind", at))
     elif is_access(instruction):
-        draft.write((word, places[at]))
+        for deed in deeds[at]:
+            draft.write(deed)
     else:
         draft.write(instruction)
     draft.touch_along(words.get((at, goal), ()))

@@ -195,3 +195,11 @@ def bad_rows_of_books(most):
     """Values that are no row of the unlike numbers 0, 1 and so on of 1 to most."""
     values = ((), 0, 3, (1,), (0, 0), (0, 2), (-1, 0), (1, 2), (False, True), (0, "1"), (0, 1, 1), tuple(range(most + 1)))
     return awaited("BadLayout", (), ODD + values)
+
+
+def bad_starts():
+    """Values that are no ascending tuple of at least one layout of two places."""
+    one, other = (0, 1), (1, 0)
+    rows = [(), 0, one, (other, one), (one, one), [one, other], (one, other, other), (one, None), (one, (0, 0)), (one, 0)]
+    rows += [(one, [1, 0]), (one, (True, False)), ((False, True), other), (one, (0, 1, 2)), (one,) * 25, {0: one}]
+    return awaited("BadLayouts", (), ODD + tuple(rows))

@@ -3,14 +3,15 @@
 import random
 import unittest
 
-from restlesshelf import apart, blocks, carrying, groups, joins, kinds, looks, making, phrases, plans, programs, rows
-from restlesshelf import running, shelves, texts, trees, walks
+from restlesshelf import apart, blocks, carrying, copies, finding, groups, hands, joins, kinds, looks, making, phrases
+from restlesshelf import plans, programs, rows, running, sharing, shelves, texts, trees, walks
 from restlesshelf.benches import Shelf
 from restlesshelf.errors import ShelfError
 
 FRONT = ((0, 1, 2), (1, 0, 2), (1, 2, 0))
 SWAP = ((1, 0), (0, 1))
 STILL = ((0, 1), (0, 1))
+APART = (STILL, STILL)
 LOOP = (("get", 0), ("set", 1), ("zero", 0), ("say",))
 BLOCKS = (("a",), (("p", (("say", "a"),)),), (("ask", "a"), ("repeat", 2, (("do", "p"),))))
 MANY = (STILL, SWAP, STILL)
@@ -44,6 +45,22 @@ CALLS = [
     (groups.blocks, ((0, 1, 2),) * 3), (groups.never, SWAP, (1, 0)), (groups.shows_never, SWAP, (1, 0), ("closed",)),
     (groups.orbits, STILL), (groups.alone, FRONT, 1), (groups.stirring, FRONT), (joins.beside, FRONT, SWAP),
     (joins.within, SWAP, STILL), (joins.within, FRONT, STILL), (joins.called, FRONT, (2, 0, 1)), (joins.backed, FRONT),
+    (copies.copies_met, APART, ((0, 1), (1, 0)), (0, 1)), (copies.copies_met, APART, ((0, 1), (1, 0)), (0,)),
+    (copies.copies_written, APART, ((0, 1), (1, 0)), (0, 1)), (copies.copies_written, APART, ((0, 1), (1, 0)), (1, 0)),
+    (copies.shows_written, APART, ((0, 1), (1, 0)), (0, 1), (("set", 0), ("set", 1))),
+    (copies.least_copies, APART, ((0, 1), (1, 0)), LOOP[:1]), (copies.least_copies, APART, ((0, 1), (1, 0)), LOOP),
+    (copies.written_with, APART, ((0, 1), (1, 0)), LOOP[:1], ((0, (0, 1)),)),
+    (copies.written_with, APART, ((0, 1), (1, 0)), LOOP[:1], ((0, (0,)),)),
+    (finding.may_stand, SWAP, ((0, 1), (1, 0)), 1, (0, 1)), (finding.least_looks, SWAP, ((0, 1), (1, 0)), None),
+    (finding.tells, SWAP, ((0, 1), (1, 0)), 0, (0, ((0, 1), (1, 0)))), (finding.tells, SWAP, ((1, 0), (0, 1)), 0, 0),
+    (hands.goes, SWAP, (0, 1), ((0, 0), (1, None)), ((1, 1),), (0, 1, 0)), (hands.straight, FRONT, (0, 1, 2), (2, 1, 2)),
+    (hands.first_clash, SWAP, (0, 1), ((0, 0), (1, None)), ((1, 1),)), (hands.free_pairs, FRONT, (0, 1, 2)),
+    (hands.weaves_right, SWAP, (0, 1), ((0, 0), (1, None)), ((1, 1),)), (hands.hinders, FRONT, (0, 1, 2), (2,), (0, 1)),
+    (hands.ends_of, SWAP, (0, 1), ((0, 0), (1, None)), ((1, 1),)), (hands.goes, SWAP, (0, 1), (), (), (0,)),
+    (sharing.shared, FRONT, ((0, 1, 2), (2, 1, 0)), (1, 2, 0)), (sharing.shared, STILL, ((0, 1),), (1, 0)),
+    (sharing.leads_all, SWAP, ((1, 0),), (0, 1), (((1, 0), 0),)), (sharing.least_shared, SWAP, (0, 1), LOOP),
+    (sharing.shared_touches, SWAP, (0, 1), LOOP, ((0, 1),) * 4), (sharing.written_shared, SWAP, (0, 1), LOOP, ((0, 1),) * 4),
+    (sharing.least_shared, FRONT, (0, 1, 2), (("zero", 0),) * 5),
 ]
 
 

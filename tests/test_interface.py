@@ -64,6 +64,25 @@ INTERFACE = {
     "joins": (
         "beside(one, other)", "within(outer, inner)", "called(habit, order)", "backed(habit)", "doubled(habit)",
     ),
+    "copies": (
+        "copies_met(habits, stand, copies)", "copies_written(habits, stand, copies)",
+        "shows_written(habits, stand, copies, value)", "least_copies(habits, stand, program)",
+        "written_with(habits, stand, program, sets)",
+    ),
+    "finding": (
+        "may_stand(habit, layouts, name, word)", "least_looks(habit, layouts, name)",
+        "tells(habit, layouts, name, value)",
+    ),
+    "hands": (
+        "goes(habit, layout, one, other, weave)", "straight(habit, layout, names)",
+        "first_clash(habit, layout, one, other)", "weaves_right(habit, layout, one, other)",
+        "ends_of(habit, layout, one, other)", "hinders(habit, layout, names, others)", "free_pairs(habit, layout)",
+    ),
+    "sharing": (
+        "shared(habit, sources, layout)", "leads_all(habit, sources, layout, value)",
+        "shared_touches(habit, layout, program, plan)", "written_shared(habit, layout, program, plan)",
+        "least_shared(habit, layout, program)",
+    ),
 }
 
 SHELF = (
