@@ -73,9 +73,9 @@ def least_looks_for(habit, layouts, name):
         # A look that shows one book alone tells nothing: it only moves all layouts alike.
         if len(parts) > 1:
             told = [(book, least_looks_for(habit, left, name)) for book, left in parts]
-            depth = 1 + max([looks for _, (looks, _) in told])
+            depth = 1 + max([least[0] for _, least in told])
             if best is None or depth < best[0]:
-                best = (depth, (place, tuple([(book, tree) for book, (_, tree) in told])))
+                best = (depth, (place, tuple([(book, least[1]) for book, least in told])))
     return best
 
 

@@ -66,4 +66,4 @@ class Gathering:
 
 def parts_of(group):
     """The parts of a group, neither void nor whole, but for those whose rest is a part already."""
-    return [part for part in range(1, group) if part & group == part and part < group - part]
+    return [part for part in range(1, group) if (part & group) == part and part < group - part]

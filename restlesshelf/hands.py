@@ -46,12 +46,12 @@ def weaves_right(habit, layout, one, other):
             for hand in HANDS:
                 new = state_behind(habit, one, other, state, hand)
                 if new is not None and touches_right(one, other, state, hand):
-                    count, best = further.get(new, (0, None))
                     weave = least + (hand,)
-                    further[new] = (count + many, weave if best is None else min(best, weave))
+                    count, best = further.get(new, (0, weave))
+                    further[new] = (count + many, min(best, weave))
         found = further
-    many = sum([count for count, _ in found.values()])
-    return (many, min([weave for _, weave in found.values()], default=None))
+    ends = list(found.values())
+    return (sum([many for many, _ in ends]), min([least for _, least in ends], default=None))
 
 
 def ends_of(habit, layout, one, other):

@@ -263,7 +263,8 @@ class ShownTests(unittest.TestCase):
     def test_any_value(self):
         good = (("set", 0), ("set", 1))
         self.assertIs(shows_written(*APART, (0, 1), good), True)
-        values = list(helpers.ODD) + [
+        values = list(helpers.ODD) + [((word, 0),) + good for word in ("put", "get", "TOUCH", "", None, 0, ("touch",), [])]
+        values += [
             (), 0, "set", list(good), (["set", 0], ("set", 1)), (("set", False), ("set", True)), (("set", 0), ("set", True)),
             (("set", 0), ("set", 2)), (("set", 0), ("set", -1)), (("set", 0), ("set", "1")), (("set", 0), ("set",)),
             (("set", 0), ("set", 1, 1)), (("set", 0), "set"), (("set", 0), None), good + (None,), (("put", 0), ("set", 1)),

@@ -376,6 +376,16 @@ class LeastSharedTests(unittest.TestCase):
                 sizes[min(fewest, 2)] = sizes.get(min(fewest, 2), 0) + 1
         self.assertGreater(min(sizes.get(fewest, 0) for fewest in (0, 1)), 5)
 
+    def test_plans_that_seem_better_than_they_are(self):
+        # Some plan has fewer touches to the farthest layout, or fewer layouts to lead, than its ways can share.
+        cases = (
+            (((0, 1, 2, 3), (3, 1, 0, 2), (0, 1, 2, 3), (3, 1, 2, 0)), (3, 2, 1, 0), (("set", 2), ("zero", 0))),
+            (((0, 1, 2, 3), (0, 1, 2, 3), (1, 2, 0, 3), (3, 1, 0, 2)), (1, 3, 0, 2), (("plus", 1), ("zero", 0))),
+            (((0, 1, 2, 3), (0, 1, 2, 3), (0, 3, 1, 2), (3, 1, 0, 2)), (2, 1, 0, 3), (("set", 3), ("go", 0))),
+        )
+        for habit, layout, program in cases:
+            self.assertEqual(self.assert_is_first(habit, layout, program), 2)
+
     def test_by_hand(self):
         one, other = (0, 1), (1, 0)
         self.assertEqual(least_shared(SWAP, one, (("stop",), ("get", 0))), ((one, None), 0))
